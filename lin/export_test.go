@@ -14,5 +14,5 @@ func Hopes(shape int, h *hist.Hist, begun ...int) bool {
 		meant.Do(calls[id].Op)
 		stand = stand.with(id)
 	}
-	return newSearch(calls).hopes(meant, stand)
+	return newSearch(shape, calls).hopes(meant, stand)
 }

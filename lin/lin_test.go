@@ -92,6 +92,14 @@ func fits(shape int, op api.Op) bool {
 	return false
 }
 
+// wrongOps is operations that aren't of a shape.
+func wrongOps(shape int) []api.Op {
+	if isSet(shape) {
+		return []api.Op{put(1), take(), ins(-1), del(1000), {}, {Kind: 6}, {Kind: math.MinInt}}
+	}
+	return []api.Op{ins(1), del(1), has(1), put(-1), put(1000), {Kind: api.Take, Key: 1}, {Kind: api.Take, Key: -1}, {}, {Kind: 9}}
+}
+
 // plain is the items behind an order, if it is legal: the chapter's words, one by one.
 func plain(shape int, calls []hist.Call, order []int) ([]int, bool) {
 	stands := map[int]int{}
@@ -104,7 +112,7 @@ func plain(shape int, calls []hist.Call, order []int) ([]int, bool) {
 	for _, c := range calls {
 		_, in := stands[c.Id]
 		ended := c.Ended >= 0
-		if !fits(shape, c.Op) || ended && in != (c.Res.Code == api.OK) {
+		if in && !fits(shape, c.Op) || ended && in != (c.Res.Code == api.OK) {
 			return nil, false
 		}
 	}
@@ -170,7 +178,7 @@ func someOp(c *chance, shape, keys int) api.Op {
 	return take()
 }
 
-// events is events of threads each of whose operations is done at one moment within its span (some are refused instead), and ends, if wanted, at last.
+// events is events of threads each of whose operations is done at one moment within its span (some are refused instead, with all that aren't of the shape), and ends, if wanted, at last.
 func events(c *chance, shape, threads, calls, keys int, toEnd bool) []hist.Event {
 	var l []hist.Event
 	var m model
@@ -182,11 +190,14 @@ func events(c *chance, shape, threads, calls, keys int, toEnd bool) []hist.Event
 			if begun == calls {
 				continue
 			}
-			ops[thread] = someOp(c, shape, keys)
+			if ops[thread] = someOp(c, shape, keys); c.below(8) == 0 {
+				wrong := wrongOps(shape)
+				ops[thread] = wrong[c.below(len(wrong))]
+			}
 			l = append(l, b(thread, ops[thread]))
 			begun++
 		case 1:
-			if told[thread] = full; c.below(12) > 0 {
+			if told[thread] = full; fits(shape, ops[thread]) && c.below(12) > 0 {
 				m, told[thread] = m.do(shape, ops[thread])
 			}
 		case 2:
@@ -206,7 +217,7 @@ func spoil(c *chance, l []hist.Event, keys int) {
 			x.Op = []api.Op{ins(1), put(1), take(), put(1000), {Kind: 5, Key: 1}, {}, {Kind: 6}}[c.below(7)]
 		case !x.Ends:
 		case c.below(2) == 0:
-			x.Res = []api.Res{yes, no, full, val(c.below(keys)), {Val: 1}, {Code: api.ErrArg, Ok: true}, val(-1)}[c.below(7)]
+			x.Res = []api.Res{yes, no, full, val(c.below(keys)), {Val: 1}, {Code: api.ErrArg, Ok: true}, val(-1), val(1000)}[c.below(8)]
 		default:
 			y := &l[c.below(len(l))]
 			if y.Ends {
@@ -351,24 +362,83 @@ func TestWrongNumbers(t *testing.T) {
 	}
 }
 
-// P9.1: one call whose operation isn't of the shape, and nothing is legal, whatever became of that call.
+// P9.1: a call whose operation isn't of the shape stands in no order. If it has to, nothing is legal; if not, it is asked nothing.
 func TestForeignOperation(t *testing.T) {
-	wrong := map[int][]api.Op{
-		api.List:  {put(1), take(), ins(-1), del(1000), {}, {Kind: 6}, {Kind: math.MinInt}},
-		api.Stack: {ins(1), del(1), has(1), put(-1), put(1000), {Kind: api.Take, Key: 1}, {}},
-	}
-	wrong[api.Hash], wrong[api.Queue] = wrong[api.List], wrong[api.Stack]
 	for _, shape := range shapes {
-		for _, op := range wrong[shape] {
-			for _, l := range [][]hist.Event{{b(1, op)}, {b(1, op), e(1, yes)}, {b(1, op), e(1, no)}, {b(1, op), e(1, api.Res{Code: api.ErrArg})}} {
-				h := made(t, l...)
-				if lin.Legal(shape, h) || lin.Legal(shape, h, 0) || lin.Linear(shape, h) {
-					t.Errorf("shape %d: %v is linear", shape, l)
+		for _, op := range wrongOps(shape) {
+			for _, res := range []api.Res{yes, no, val(1)} {
+				h := made(t, b(1, op), e(1, res))
+				if lin.Legal(shape, h) || lin.Legal(shape, h, 0) {
+					t.Errorf("shape %d: %v told %v is legal", shape, op, res)
 				}
-				if order, ok, e := lin.Order(shape, h); order != nil || ok || e != api.OK {
-					t.Errorf("shape %d: %v: %v, %v, %d", shape, l, order, ok, e)
+				if order, ok, e := lin.Order(shape, h); order != nil || ok || e != api.OK || lin.Linear(shape, h) {
+					t.Errorf("shape %d: %v told %v: %v, %v, %d", shape, op, res, order, ok, e)
 				}
 			}
+			for _, l := range [][]hist.Event{{b(1, op)}, {b(1, op), e(1, full)}, {b(1, op), e(1, api.Res{Code: -1, Ok: true})}} {
+				leftOut(t, shape, l)
+			}
+		}
+	}
+}
+
+// leftOut asks for a shape's orders of a call that may be left out, and isn't of the shape: alone, and beside others.
+func leftOut(t *testing.T, shape int, l []hist.Event) {
+	t.Helper()
+	h := made(t, l...)
+	items, legal := lin.Behind(shape, h)
+	order, ok, e := lin.Order(shape, h)
+	if len(items)+len(order) > 0 || !legal || !lin.Legal(shape, h) || !ok || e != api.OK || !lin.Linear(shape, h) {
+		t.Errorf("shape %d, %v: %v, %v; %v, %v, %d", shape, l, items, legal, order, ok, e)
+	}
+	op := put(2)
+	if isSet(shape) {
+		op = ins(2)
+	}
+	for own := range 2 {
+		h := made(t, slices.Insert(slices.Clone(l), own, b(3, op), hist.Event{Thread: 3, Ends: true, Res: yes})...)
+		if order, ok, e := lin.Order(shape, h); !slices.Equal(order, []int{own}) || !ok || e != api.OK {
+			t.Errorf("shape %d, %v: %v, %v, %d", shape, h.Events(), order, ok, e)
+		}
+		if items, ok := lin.Behind(shape, h, own); !slices.Equal(items, []int{2}) || !ok {
+			t.Errorf("shape %d, %v: %v, %v", shape, h.Events(), items, ok)
+		}
+		for _, order := range [][]int{nil, {1 - own}, {0, 1}, {1, 0}} {
+			if items, ok := lin.Behind(shape, h, order...); items != nil || ok || lin.Legal(shape, h, order...) {
+				t.Errorf("shape %d, %v: %v: %v, %v", shape, h.Events(), order, items, ok)
+			}
+		}
+	}
+}
+
+// P9.1: a call whose operation isn't of the shape is no help to another one.
+func TestForeignHelp(t *testing.T) {
+	for i, c := range []struct {
+		shape int
+		wrong api.Op // pending all the time
+		right api.Op // would help in its place, if there is one that would
+		then  []hist.Event
+	}{
+		{api.Queue, put(1000), api.Op{}, []hist.Event{b(1, take()), e(1, val(1000))}},
+		{api.Stack, put(-1), api.Op{}, []hist.Event{b(1, take()), e(1, val(-1))}},
+		{api.Queue, ins(7), put(7), []hist.Event{b(1, take()), e(1, val(7))}},
+		{api.Stack, api.Op{Kind: 9, Key: 7}, put(7), []hist.Event{b(1, take()), e(1, val(7))}},
+		{api.Queue, api.Op{Kind: api.Take, Key: 3}, take(), []hist.Event{b(1, put(3)), e(1, yes), b(1, take()), e(1, no)}},
+		{api.Stack, api.Op{Kind: api.Take, Key: 2}, take(), []hist.Event{b(1, put(1)), e(1, yes), b(1, put(2)), e(1, yes), b(1, take()), e(1, val(1))}},
+		{api.List, put(7), ins(7), []hist.Event{b(1, has(7)), e(1, yes)}},
+		{api.List, ins(1000), api.Op{}, []hist.Event{b(1, has(1000)), e(1, yes)}},
+		{api.Hash, api.Op{Kind: api.Take, Key: 7}, del(7), []hist.Event{b(1, ins(7)), e(1, yes), b(1, has(7)), e(1, no)}},
+	} {
+		h := made(t, slices.Concat([]hist.Event{b(0, c.wrong)}, c.then)...)
+		if order, ok, e := lin.Order(c.shape, h); order != nil || ok || e != api.OK || lin.Linear(c.shape, h) {
+			t.Errorf("%d: %v, %v, %d", i, order, ok, e)
+		}
+		if !isSet(c.shape) && lin.Hopes(c.shape, h) {
+			t.Errorf("%d: help is hoped for", i)
+		}
+		h = made(t, slices.Concat([]hist.Event{b(0, c.right)}, c.then)...)
+		if helps := c.right != (api.Op{}); lin.Linear(c.shape, h) != helps {
+			t.Errorf("%d: that %v helps is %v", i, c.right, !helps)
 		}
 	}
 }
@@ -433,9 +503,29 @@ func TestManyCalls(t *testing.T) {
 	if got, ok := lin.Behind(api.Queue, h, order...); !ok || !slices.Equal(got, items) {
 		t.Error(got, ok)
 	}
+	// what is begun then, and is none of the shape, changes nothing while it is left out
+	h.Begin(2, put(1000))
+	if got, ok := lin.Behind(api.Queue, h, order...); !ok || !slices.Equal(got, items) || lin.Legal(api.Queue, h, append(order, len(order))...) {
+		t.Error(got, ok)
+	}
 	order[7], order[8] = 8, 7
 	if lin.Legal(api.Queue, h, order...) {
 		t.Error("legal")
+	}
+}
+
+// P9.1: calls that can stand in no order count as all others do.
+func TestManyForeignCalls(t *testing.T) {
+	for _, shape := range shapes {
+		h := hist.New()
+		for n := range api.MaxCalls + 2 {
+			order, ok, e := lin.Order(shape, h)
+			if n > api.MaxCalls != (e == api.ErrLong) || ok != (e == api.OK) || order != nil || lin.Linear(shape, h) != ok || !lin.Legal(shape, h) {
+				t.Errorf("shape %d, %d calls: %v, %v, %d", shape, n, order, ok, e)
+			}
+			h.Begin(0, api.Op{Kind: 9})
+			h.End(0, full)
+		}
 	}
 }
 
@@ -462,6 +552,9 @@ func begins(shape int, calls []hist.Call, l []int) bool {
 		return true
 	}
 	last := calls[l[len(l)-1]]
+	if !fits(shape, last.Op) {
+		return false
+	}
 	for _, c := range calls {
 		if c.Ended >= 0 && c.Ended < last.Began && c.Res.Code == api.OK && !slices.Contains(l, c.Id) {
 			return false
@@ -478,11 +571,11 @@ func begins(shape int, calls []hist.Call, l []int) bool {
 // P9.1: what is hoped of a beginning holds, of a Queue and a Stack: so nothing is tried in vain, however many calls there are.
 func TestHopes(t *testing.T) {
 	count := map[bool]int{}
-	for seed := range 6000 {
+	for seed := range 20000 {
 		shape, h := some(t, seed+20000, 5)
 		calls := h.Calls()
 		if isSet(shape) || slices.ContainsFunc(calls, func(c hist.Call) bool {
-			return !fits(shape, c.Op) || c.Op.Kind == api.Put && c.Ended >= 0 && c.Res.Code == api.OK && c.Res != yes
+			return c.Ended >= 0 && c.Res.Code == api.OK && (!fits(shape, c.Op) || c.Op.Kind == api.Put && c.Res != yes)
 		}) {
 			continue
 		}

@@ -18,8 +18,8 @@ func (s *search) served(stand group, items []int) bool {
 	if _, ok := s.dead[here]; ok {
 		return false
 	}
-	for id, call := range s.calls {
-		if !stand.has(id) && stand.covers(s.ahead[id]&s.takes) && s.serves(call, stand, items) {
+	for _, call := range s.calls {
+		if !stand.has(call.Id) && stand.covers(s.ahead[call.Id]&s.takes) && s.serves(call, stand, items) {
 			return true
 		}
 	}
@@ -36,8 +36,8 @@ func (s *search) serves(take hist.Call, stand group, items []int) bool {
 	if misses(take) {
 		return s.closed(then) && s.served(then, nil)
 	}
-	for id, put := range s.calls {
-		if puts(put) && s.free(id, stand) && takes(take, put.Op.Key) && s.served(then.with(id), nil) {
+	for _, put := range s.calls {
+		if puts(put) && s.free(put.Id, stand) && takes(take, put.Op.Key) && s.served(then.with(put.Id), nil) {
 			return true
 		}
 	}
@@ -46,8 +46,8 @@ func (s *search) serves(take hist.Call, stand group, items []int) bool {
 
 // closed tells whether with each call all stand that have to stand ahead of it: then nothing has been put that wasn't taken.
 func (s *search) closed(stand group) bool {
-	for id := range s.calls {
-		if stand.has(id) && !stand.covers(s.ahead[id]) {
+	for _, call := range s.calls {
+		if stand.has(call.Id) && !stand.covers(s.ahead[call.Id]) {
 			return false
 		}
 	}

@@ -35,7 +35,7 @@ func stateOf(stand group, items []int) state {
 
 // search looks for the least legal order of calls.
 type search struct {
-	calls []hist.Call
+	calls []hist.Call        // those that may stand in it, the others are none of its business
 	must  group              // which have to stand in it
 	takes group              // which of these are Takes
 	ahead []group            // of each call, which have to stand ahead of it
@@ -43,38 +43,42 @@ type search struct {
 	pairs map[group][]group  // what inPairs told
 }
 
-// newSearch is a search among calls that are right.
-func newSearch(calls []hist.Call) *search {
+// newSearch is a search among calls that are right for a shape.
+func newSearch(shape int, calls []hist.Call) *search {
 	s := &search{
-		calls: calls,
 		ahead: make([]group, len(calls)),
 		dead:  map[state]struct{}{},
 		pairs: map[group][]group{},
 	}
-	for id, call := range calls {
+	for _, call := range calls {
+		if may(shape, call) {
+			s.calls = append(s.calls, call)
+		}
+	}
+	for _, call := range s.calls {
 		if must(call) {
-			s.note(id, call)
+			s.note(call)
 		}
 	}
 	return s
 }
 
 // note notes that a call has to stand in an order, and ahead of whom.
-func (s *search) note(id int, call hist.Call) {
-	s.must = s.must.with(id)
+func (s *search) note(call hist.Call) {
+	s.must = s.must.with(call.Id)
 	if call.Op.Kind == api.Take {
-		s.takes = s.takes.with(id)
+		s.takes = s.takes.with(call.Id)
 	}
-	for other, x := range s.calls {
+	for _, x := range s.calls {
 		if call.Before(x.Span) {
-			s.ahead[other] = s.ahead[other].with(id)
+			s.ahead[x.Id] = s.ahead[x.Id].with(call.Id)
 		}
 	}
 }
 
-// free tells whether a call can be the next one behind those that stand, whatever it is told.
+// free tells whether one of the calls can be the next one behind those that stand, whatever it is told.
 func (s *search) free(id int, stand group) bool {
-	return !stand.has(id) && may(s.calls[id]) && stand.covers(s.ahead[id])
+	return !stand.has(id) && stand.covers(s.ahead[id])
 }
 
 // goOn is the least legal order that begins with a legal one's beginning; the meaning behind that, and its calls, are handed in, too.
@@ -86,8 +90,8 @@ func (s *search) goOn(meant *spec.Spec, stand group, order ...int) ([]int, bool)
 	if _, ok := s.dead[here]; ok || !s.hopes(meant, stand) {
 		return nil, false
 	}
-	for id, call := range s.calls {
-		if !s.free(id, stand) {
+	for _, call := range s.calls {
+		if !s.free(call.Id, stand) {
 			continue
 		}
 		next := meant.Copy()
@@ -95,7 +99,7 @@ func (s *search) goOn(meant *spec.Spec, stand group, order ...int) ([]int, bool)
 			continue
 		}
 		n := len(order)
-		if found, ok := s.goOn(next, stand.with(id), append(order[:n:n], id)...); ok {
+		if found, ok := s.goOn(next, stand.with(call.Id), append(order[:n:n], call.Id)...); ok {
 			return found, true
 		}
 	}

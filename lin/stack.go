@@ -26,8 +26,8 @@ func (s *search) popped(stand group, items []int) bool {
 			return true
 		}
 	}
-	for id, call := range s.calls {
-		if s.free(id, stand) && s.pops(call, stand.with(id), items) {
+	for _, call := range s.calls {
+		if s.free(call.Id, stand) && s.pops(call, stand.with(call.Id), items) {
 			return true
 		}
 	}
@@ -53,14 +53,14 @@ func (s *search) inPairs(stand group) []group {
 		return known
 	}
 	found := map[group]struct{}{}
-	for id, put := range s.calls {
-		if !puts(put) || !s.free(id, stand) {
+	for _, put := range s.calls {
+		if !puts(put) || !s.free(put.Id, stand) {
 			continue
 		}
-		for between := range s.level(stand.with(id)) {
-			for t, take := range s.calls {
-				if s.free(t, between) && takes(take, put.Op.Key) {
-					found[between.with(t)] = struct{}{}
+		for between := range s.level(stand.with(put.Id)) {
+			for _, take := range s.calls {
+				if s.free(take.Id, between) && takes(take, put.Op.Key) {
+					found[between.with(take.Id)] = struct{}{}
 				}
 			}
 		}
