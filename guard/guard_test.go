@@ -9,6 +9,7 @@ import (
 	"sherpa/guard"
 	"sherpa/life"
 	"sherpa/mem"
+	"sherpa/trace"
 )
 
 var layout = mem.Layout{Threads: 2, Nodes: 3}
@@ -52,29 +53,11 @@ func full(t *testing.T, l mem.Layout, x uint64) *mem.Mem {
 // follow runs a machine to its end, and tells what it did.
 func follow(t *testing.T, m *mem.Mem, x mem.Machine) []mem.Action {
 	t.Helper()
-	var did []mem.Action
-	for ended := false; !ended; {
-		before := m.Actions()
-		ended = x.Step(m)
-		if m.Actions() != before+1 {
-			t.Fatalf("a step did %d actions", m.Actions()-before)
-		}
-		if did = append(did, m.Last()); len(did) > 1000 {
-			t.Fatal("no end")
-		}
+	did, ok := trace.Of(m, 1000, x)
+	if !ok {
+		t.Fatalf("no end, or a step that isn't one action, behind %v", did)
 	}
 	return did
-}
-
-// loaded, stored and given are the actions of the machines.
-func loaded(addr int, x uint64) mem.Action {
-	return mem.Action{Kind: mem.Load, Addr: addr, Old: x, New: x, Ok: true}
-}
-func stored(addr int, was uint64) mem.Action {
-	return mem.Action{Kind: mem.Store, Addr: addr, Old: was, Ok: true}
-}
-func given(addr int, was uint64) mem.Action {
-	return mem.Action{Kind: mem.Add, Addr: addr, Old: was, New: was + 1, Ok: true}
 }
 
 // P5.1: a node that is in a slot is kept, another one is given back.
@@ -82,9 +65,9 @@ func TestExample(t *testing.T) {
 	m := fresh(t, layout, 0, 0, 2)
 	s := guard.New(layout, 1, 2)
 	want := []mem.Action{
-		loaded(layout.Slot(0, 0), 0), loaded(layout.Slot(0, 1), 0),
-		loaded(layout.Slot(1, 0), 2), loaded(layout.Slot(1, 1), 0),
-		given(layout.Life(1), 1),
+		trace.Load(layout.Slot(0, 0), 0), trace.Load(layout.Slot(0, 1), 0),
+		trace.Load(layout.Slot(1, 0), 2), trace.Load(layout.Slot(1, 1), 0),
+		trace.Add(layout.Life(1), 1, 1),
 	}
 	if got := follow(t, m, s); !slices.Equal(got, want) {
 		t.Error(got)
@@ -112,13 +95,13 @@ func fillings(slots, nodes int) [][]uint64 {
 // expected is what a scan does and tells, when nobody else does anything.
 func expected(l mem.Layout, slots []uint64, nodes []int) (did []mem.Action, kept, freed []int) {
 	for i, x := range slots {
-		did = append(did, loaded(l.Slot(i/2, i%2), x))
+		did = append(did, trace.Load(l.Slot(i/2, i%2), x))
 	}
 	for _, node := range nodes {
 		if slices.Contains(slots, uint64(node)) {
 			kept = append(kept, node)
 		} else {
-			did, freed = append(did, given(l.Life(node), 1)), append(freed, node)
+			did, freed = append(did, trace.Add(l.Life(node), 1, 1)), append(freed, node)
 		}
 	}
 	return did, kept, freed
@@ -168,7 +151,7 @@ func TestNothingToGive(t *testing.T) {
 		m, s := fresh(t, layout, 3, 0, 0, 1), guard.New(layout, nodes...)
 		before := m.Copy()
 		got := follow(t, m, s)
-		if len(got) != 4 || got[3] != loaded(layout.Slot(1, 1), 1) || !slices.Equal(s.Kept, nodes) || len(s.Freed) != 0 || !m.Same(before) {
+		if len(got) != 4 || got[3] != trace.Load(layout.Slot(1, 1), 1) || !slices.Equal(s.Kept, nodes) || len(s.Freed) != 0 || !m.Same(before) {
 			t.Errorf("for %v: %v; %v, %v", nodes, got, s.Kept, s.Freed)
 		}
 	}
@@ -225,10 +208,10 @@ func TestGuardedTooLate(t *testing.T) {
 		s.Step(m)
 	}
 	m.Store(layout.Slot(0, 0), 1)
-	if s.Step(m) || m.Last() != given(layout.Life(2), 1) || life.Taken(m, layout, 2) || !life.Taken(m, layout, 1) {
+	if s.Step(m) || m.Last() != trace.Add(layout.Life(2), 1, 1) || life.Taken(m, layout, 2) || !life.Taken(m, layout, 1) {
 		t.Error(m.Last())
 	}
-	if !s.Step(m) || m.Last() != given(layout.Life(1), 1) || !slices.Equal(s.Freed, []int{2, 1}) {
+	if !s.Step(m) || m.Last() != trace.Add(layout.Life(1), 1, 1) || !slices.Equal(s.Freed, []int{2, 1}) {
 		t.Error(m.Last(), s.Freed)
 	}
 }
@@ -240,7 +223,7 @@ func TestGivenBackByAdds(t *testing.T) {
 		s.Step(m)
 	}
 	m.Store(layout.Life(1), math.MaxUint64)
-	if !s.Step(m) || m.Last() != given(layout.Life(1), math.MaxUint64) || m.Peek(layout.Life(1)) != 0 {
+	if !s.Step(m) || m.Last() != trace.Add(layout.Life(1), math.MaxUint64, 1) || m.Peek(layout.Life(1)) != 0 {
 		t.Error(m.Last())
 	}
 }
@@ -378,7 +361,7 @@ func TestDrop(t *testing.T) {
 				after := m.Copy()
 				after.Store(l.Slot(thread, 0), 0)
 				after.Store(l.Slot(thread, 1), 0)
-				want := []mem.Action{stored(l.Slot(thread, 0), x), stored(l.Slot(thread, 1), x)}
+				want := []mem.Action{trace.Store(l.Slot(thread, 0), x, 0), trace.Store(l.Slot(thread, 1), x, 0)}
 				if got := follow(t, m, guard.Drop(l, thread)); !slices.Equal(got, want) || !m.Same(after) {
 					t.Errorf("%d of %d: %v", thread, threads, got)
 				}
@@ -460,7 +443,7 @@ func TestWrongLayouts(t *testing.T) {
 	for _, l := range wrong {
 		m := full(t, layout, 1)
 		before := m.Copy()
-		idle := []mem.Action{loaded(0, 1)}
+		idle := []mem.Action{trace.Load(0, 1)}
 		if got := follow(t, m, guard.New(l)); !slices.Equal(got, idle) {
 			t.Errorf("%+v: %v", l, got)
 		}

@@ -8,6 +8,7 @@ import (
 	"sherpa/api"
 	"sherpa/life"
 	"sherpa/mem"
+	"sherpa/trace"
 )
 
 var layout = mem.Layout{Threads: 2, Nodes: 3}
@@ -46,26 +47,19 @@ func lives(m *mem.Mem) []uint64 {
 // follow runs a machine to its end, and tells what it did.
 func follow(t *testing.T, m *mem.Mem, x mem.Machine) []mem.Action {
 	t.Helper()
-	var did []mem.Action
-	for ended := false; !ended; {
-		before := m.Actions()
-		ended = x.Step(m)
-		if m.Actions() != before+1 {
-			t.Fatalf("a step did %d actions", m.Actions()-before)
-		}
-		if did = append(did, m.Last()); len(did) > 1000 {
-			t.Fatal("no end")
-		}
+	did, ok := trace.Of(m, 1000, x)
+	if !ok {
+		t.Fatalf("no end, or a step that isn't one action, behind %v", did)
 	}
 	return did
 }
 
 // loaded and swapped are the actions of a machine that takes.
 func loaded(l mem.Layout, node int, x uint64) mem.Action {
-	return mem.Action{Kind: mem.Load, Addr: l.Life(node), Old: x, New: x, Ok: true}
+	return trace.Load(l.Life(node), x)
 }
 func swapped(l mem.Layout, node int, is, old uint64) mem.Action {
-	return mem.Action{Kind: mem.Cas, Addr: l.Life(node), Old: is, New: old + 1, Ok: is == old}
+	return trace.Cas(l.Life(node), is, old, old+1)
 }
 
 // idle is the action of a machine that has nothing to do.
